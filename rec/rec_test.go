@@ -174,7 +174,7 @@ func TestBytesOfAllKinds(t *testing.T) {
 	s, h := fresh(t, 4096)
 	r := rand.New(rand.NewSource(10))
 	records := map[int]record{}
-	for _, n := range []int{1, 7, 8, 9, 48, 49, 496, 497, 1000, 1001, 4096} {
+	for _, n := range []int{1, 7, 8, 9, 48, 240, 241, 488, 489, 1000, 1001, 4096} {
 		for _, fill := range []func() byte{
 			func() byte { return 0 },
 			func() byte { return 255 },
@@ -206,14 +206,19 @@ func TestEmptyRecords(t *testing.T) {
 	}
 }
 
-// A record takes few words more than its bytes do.
+// A record takes few words more than its bytes do, in pieces that are all equally long.
 func TestRoomOfRecords(t *testing.T) {
 	s, h := fresh(t, 4096)
-	for n, want := range map[int]int{0: 8, 1: 8, 48: 8, 49: 16, 112: 16, 113: 32, 496: 64, 497: 72, 1000: 128, 1024: 136, 4096: 520 + 8*8} {
+	for n, want := range map[int]int{0: 32, 1: 32, 240: 32, 241: 64, 488: 64, 489: 96, 1024: 160, 4096: 544} {
 		free := h.Free()
 		at := Make(s, h, make([]byte, n))
-		if free-h.Free() > want {
+		if free-h.Free() != want {
 			t.Error(n, free-h.Free(), want)
+		}
+		for _, p := range Pieces(s, h, at) {
+			if h.Size(p) != 32 {
+				t.Error(n, h.Size(p))
+			}
 		}
 		Drop(s, h, at)
 	}
@@ -241,7 +246,7 @@ func TestTooBig(t *testing.T) {
 
 func TestHoldAndDrop(t *testing.T) {
 	s, h := fresh(t, 4096)
-	for _, n := range []int{0, 5, 496, 497, 2000, 4096} {
+	for _, n := range []int{0, 5, 240, 241, 2000, 4096} {
 		b := counted(n, 3)
 		at, other := Make(s, h, b), Make(s, h, b)
 		for k := 1; k <= 300; k++ {
@@ -324,7 +329,7 @@ func TestNoRecordStands(t *testing.T) {
 func TestGoneRecords(t *testing.T) {
 	d := device(t, 4096)
 	s, h := opened(t, d)
-	for _, n := range []int{0, 3, 497, 4096} {
+	for _, n := range []int{0, 3, 241, 4096} {
 		at := Make(s, h, counted(n, 0))
 		s.Commit()
 		Drop(s, h, at)
@@ -478,7 +483,7 @@ func TestDead(t *testing.T) {
 // What is handed in is neither changed nor kept, its spare room neither; what is told is new memory.
 func TestMemoryOfItsOwn(t *testing.T) {
 	s, h := fresh(t, 4096)
-	for _, n := range []int{1, 8, 13, 496, 1000, 4095} {
+	for _, n := range []int{1, 8, 13, 240, 1000, 4095} {
 		want := counted(n, 9)
 		b := append(counted(n, 9), "spare room"...)[:n]
 		at := Make(s, h, b)
@@ -724,7 +729,7 @@ func TestHurtChains(t *testing.T) {
 		"too many bytes":    func() { l[0].bytes = 4097; hurt(s, l[0]) },
 		"many too many":     func() { l[0].bytes = fieldMask; hurt(s, l[0]) },
 		"no next":           func() { l[0].next = 0; hurt(s, l[0]) },
-		"next behind a few": func() { l[0].bytes = 496; hurt(s, l[0]) },
+		"next behind a few": func() { l[0].bytes = 240; hurt(s, l[0]) },
 	} {
 		f()
 		mustRefuse(t, s, h, at)
@@ -753,7 +758,7 @@ func TestPieceOfAnotherLength(t *testing.T) {
 // What fills a record's last word is nought: else no Make put it there.
 func TestHurtFill(t *testing.T) {
 	s, h := fresh(t, 4096)
-	for _, n := range []int{1, 7, 15, 495, 497, 4095} {
+	for _, n := range []int{1, 7, 15, 239, 241, 4095} {
 		at := Make(s, h, counted(n, 0))
 		l := parts(s, h, at)
 		p := l[len(l)-1]
@@ -792,7 +797,7 @@ func TestBytesThatLookLikeARecord(t *testing.T) {
 // A record that would reach beyond the store's end is none.
 func TestRecordBeyondTheEnd(t *testing.T) {
 	s, h := fresh(t, 1024)
-	for _, n := range []int{49, 100, 496, 4096} {
+	for _, n := range []int{49, 100, 240, 4096} {
 		p := part{at: s.Size() - 8, kind: first, bytes: n}
 		if p.behind() > 0 {
 			p.next = 64

@@ -9,8 +9,8 @@ import (
 	"reliquary/tx"
 )
 
-// thinWords is how many words a node has at most that is joined with the one beside it, if both fit one node.
-const thinWords = mostWords / 2
+// thinWords is how many words a node uses at most that is joined with the one beside it, if both fit one node.
+const thinWords = nodeWords / 2
 
 // change makes the nodes of one Put or Del.
 type change struct {
@@ -61,7 +61,7 @@ func (c *change) lessened(b branch, i int, n node) branch {
 	}
 	for left := max(i-1, 0); left <= i && left+1 < len(b.kids); left++ {
 		both := c.both(b, left, i, n)
-		if sizeOf(both) <= mostWords || len(n.items()) < n.least() {
+		if sizeOf(both) <= nodeWords || len(n.items()) < n.least() {
 			return c.replaced(b, left, left+2, both)
 		}
 	}
@@ -100,7 +100,7 @@ func (c *change) root(n node) uint64 {
 
 // written writes a node, as two if it is too great for one, with the key that stands between them.
 func (c *change) written(n node) (kids []kid, between []string) {
-	if sizeOf(n) <= mostWords {
+	if sizeOf(n) <= nodeWords {
 		return []kid{c.write(n)}, nil
 	}
 	left, key, right := halved(n)
@@ -110,7 +110,7 @@ func (c *change) written(n node) (kids []kid, between []string) {
 // write writes a node into a piece of its own.
 func (c *change) write(n node) kid {
 	w := wordsOf(n)
-	at := c.h.Take(len(w))
+	at := c.h.Take(nodeWords)
 	c.taken = append(c.taken, at)
 	for i, v := range w {
 		c.s.Put(at+i, v)

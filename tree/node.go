@@ -10,7 +10,7 @@ import (
 )
 
 const (
-	mostWords  = 32 // words of a node
+	nodeWords  = 32 // words of a node
 	leafHeight = 1
 	mostHeight = 16         // beyond all that fit a store, so that words that are no tree's make no change a great one
 	mark       = 0x74726565 // by which words that are no node's are known
@@ -232,7 +232,7 @@ func sizeOf(n node) int {
 	return d.size()
 }
 
-// size is how many words the node has: the head stands where a Pack of the keys has its own first word.
+// size is how many words the node uses: the head stands where a Pack of the keys has its own first word.
 func (d head) size() int {
 	return d.items + words.Need(d.bytes)
 }
@@ -248,7 +248,7 @@ func headAt(s *tx.Store, at uint64) head {
 	w := s.Load(int(at))
 	d := head{int(w >> heightShift & byteMask), int(w >> itemsShift & byteMask), int(w & bytesMask)}
 	mustBe(w>>markShift == mark && d.height >= leafHeight && d.height <= mostHeight)
-	mustBe(d.size() <= mostWords && uint64(d.size()) <= size-at)
+	mustBe(d.size() <= nodeWords && nodeWords <= size-at)
 	return d
 }
 

@@ -467,7 +467,7 @@ func TestDepth(t *testing.T) {
 
 // What thins out gives its room back while it does.
 func TestThinTrees(t *testing.T) {
-	for long, most := range map[int]int{4: 128, 40: 400, 80: 1300} {
+	for long, most := range map[int]int{4: 128, 40: 512, 80: 2560} {
 		s, h := fresh(t, 53136)
 		l := numbered(640, long)
 		root := made(s, h, l...)
@@ -589,10 +589,58 @@ func TestWordsOfAChange(t *testing.T) {
 	}
 }
 
+// Each node has a piece of the same length, branches are fewer than leaves, and whatever is taken away, leaves never become more: who keeps room for two nodes a leaf can always take away.
+func TestNodesAndLeaves(t *testing.T) {
+	for name, key := range families {
+		for seed := range int64(3) {
+			r := rand.New(rand.NewSource(seed))
+			s, h := fresh(t, 53136)
+			root := uint64(0)
+			leaves := func() int {
+				nodes, n := Pieces(s, h, root), 0
+				for _, at := range nodes {
+					if h.Size(at) != nodeWords {
+						t.Fatal(name, at, h.Size(at))
+					}
+					if headAt(s, uint64(at)).height == leafHeight {
+						n++
+					}
+				}
+				if n > Len(s, root) || len(nodes) > max(0, 2*n-1) {
+					t.Fatal(name, n, len(nodes), Len(s, root))
+				}
+				return n
+			}
+			turn := func(next uint64) {
+				giveUp(s, h, root, next)
+				root = next
+				s.Commit()
+			}
+			for range 2 {
+				for range 400 {
+					turn(Put(s, h, root, key(r), 1))
+				}
+				was := leaves()
+				l := Range(s, root, "", "", 9999)
+				r.Shuffle(len(l), func(i, k int) { l[i], l[k] = l[k], l[i] })
+				for _, p := range l[r.Intn(len(l)/9+1):] {
+					next, _ := Del(s, h, root, p.Key)
+					turn(next)
+					now := leaves()
+					if now > was {
+						t.Fatal(name, now, was)
+					}
+					was = now
+				}
+			}
+		}
+	}
+}
+
 // The deepest tree that the keys allow: each branch has two kids, none of whose keys is short.
 func TestTheDeepestTree(t *testing.T) {
 	s, h := fresh(t, 53136)
-	l := numbered(900, 80)
+	l := numbered(700, 80)
 	for i := range l {
 		// No key between two kids can be short, since keys part in their last bytes alone.
 		l[i].Key = strings.Repeat("k", 76) + l[i].Key[76:]
@@ -619,7 +667,7 @@ func TestTheDeepestTree(t *testing.T) {
 			t.Fatal(i)
 		}
 	}
-	if most > 1200 || Depth(s, root) < 6 || Depth(s, root) > 12 {
+	if most > 1200 || Depth(s, root) < 6 || Depth(s, root) > 10 {
 		t.Error(most, Depth(s, root))
 	}
 }
