@@ -5,43 +5,21 @@ import (
 	"strconv"
 	"strings"
 
-	"reliquary/api"
+	"reliquary/lines"
 	"reliquary/num"
 )
 
 // open is the word of a bound that bounds nothing.
 const open = "*"
 
-// Of a name each byte is from the first to the last of these: no blank, nothing that is not seen.
-const (
-	firstByte = 33
-	lastByte  = 126
-)
-
-// mostNumber is the greatest number of nine digits.
-const mostNumber = 999_999_999
-
 // reader takes the words of a line one after the other and sets fields by them.
 type reader struct {
-	rest string // behind the words that were taken
-	more bool   // a word is there yet, be it of no bytes
-	bad  bool   // a word was not as it is to be
-}
-
-// word takes the next word. One of no bytes stands between two blanks and where none is left: no field has such a one.
-func (r *reader) word() (w string) {
-	w, r.rest, r.more = strings.Cut(r.rest, blank)
-	return w
+	words *lines.Words
 }
 
 func (r *reader) name(to *string) {
-	w := r.word()
-	if !isName(w) {
-		r.bad = true
-		return
-	}
 	// A name that is kept must not hold on to its line.
-	*to = strings.Clone(w)
+	*to = strings.Clone(r.words.Name())
 }
 
 func (r *reader) bound(to *string) {
@@ -52,23 +30,12 @@ func (r *reader) bound(to *string) {
 }
 
 func (r *reader) score(to *float64) {
-	x, e := num.Parse(r.word())
-	if e != api.OK || math.IsNaN(x) {
-		r.bad = true
-		return
-	}
-	*to = x
+	*to = r.words.Score()
+	r.words.Ask(!math.IsNaN(*to))
 }
 
 func (r *reader) number(to *int) {
-	w := r.word()
-	n, err := strconv.Atoi(w)
-	// One text a number: told again, signs and noughts ahead show.
-	if err != nil || !isNumber(n) || strconv.Itoa(n) != w {
-		r.bad = true
-		return
-	}
-	*to = n
+	*to = r.words.Number()
 }
 
 // writer makes words of fields.
@@ -86,7 +53,7 @@ func (w *writer) word(s string, ok bool) {
 }
 
 func (w *writer) name(of *string) {
-	w.word(*of, isName(*of))
+	w.word(*of, lines.IsName(*of))
 }
 
 func (w *writer) bound(of *string) {
@@ -95,7 +62,7 @@ func (w *writer) bound(of *string) {
 		return
 	}
 	// Its word would be read as that of no bound.
-	w.word(*of, isName(*of) && *of != open)
+	w.word(*of, lines.IsName(*of) && *of != open)
 }
 
 func (w *writer) score(of *float64) {
@@ -103,21 +70,5 @@ func (w *writer) score(of *float64) {
 }
 
 func (w *writer) number(of *int) {
-	w.word(strconv.Itoa(*of), isNumber(*of))
-}
-
-func isName(s string) bool {
-	if len(s) < 1 || len(s) > api.MaxName {
-		return false
-	}
-	for i := range len(s) {
-		if s[i] < firstByte || s[i] > lastByte {
-			return false
-		}
-	}
-	return true
-}
-
-func isNumber(n int) bool {
-	return n >= 0 && n <= mostNumber
+	w.word(strconv.Itoa(*of), lines.IsNumber(*of))
 }
